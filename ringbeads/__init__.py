@@ -1,0 +1,1 @@
+"""Rings of beads of two kinds, told by stretches however great."""
