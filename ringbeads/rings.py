@@ -30,6 +30,11 @@ def among(ring, place, many):
     check_ring(ring)
     check_place(ring, place)
     check_many(many)
+    return inside(ring, place, many)
+
+
+def inside(ring, place, many):
+    """Tell how many beads of the kind a are among so many, all of which is checked."""
     return from_first(ring, place + many) - from_first(ring, place)
 
 
@@ -71,7 +76,7 @@ def check_ring(ring):
 
 def check_place(ring, place):
     """Refuse what is no place of a ring."""
-    if not is_whole(place) or place < 0 or place >= size(ring):
+    if not is_place(ring, place):
         raise BadPlace("a place is a whole number from 0 to one less than there are beads")
 
 
@@ -79,6 +84,11 @@ def check_many(many):
     """Refuse what is no whole number from 0 on."""
     if not is_whole(many) or many < 0:
         raise BadCount("a count of beads is a whole number from 0 on")
+
+
+def is_place(ring, thing):
+    """Tell whether something is a place of a ring."""
+    return is_whole(thing) and 0 <= thing < size(ring)
 
 
 def is_stretch(thing):

@@ -45,6 +45,19 @@ def bead_by_bead(ring):
     return "".join([letter * many for letter, many in ring])
 
 
+def counts(row, many):
+    """How many of the kind a so many beads have from each place on."""
+    return [(row * 2)[place:place + many].count("a") for place in range(len(row))]
+
+
+def edges(ring):
+    """The places where the stretches begin."""
+    places = [0]
+    for _, length in ring[:-1]:
+        places.append(places[-1] + length)
+    return places
+
+
 RINGS = [
     [("a", 1)],
     [("b", 1)],
@@ -52,6 +65,19 @@ RINGS = [
     [("b", 1), ("b", 1), ("a", 4)],
     [("a", GREAT)],
     [("b", GREAT), ("a", GREATER)],
+    [("a", HUGE), ("b", HUGE)],
+]
+
+# Of lengths of forty figures and more, most of them with the kind a ahead.
+GREAT_RINGS = [
+    [("a", GREAT)],
+    [("b", GREAT)],
+    [("a", GREATER), ("b", GREAT)],
+    [("b", GREAT), ("a", GREATER)],
+    [("a", GREAT), ("b", 1), ("a", GREATER), ("b", GREAT // 5), ("b", 3), ("a", 1)],
+    [("b", GREAT), ("a", GREATER), ("a", GREATER), ("b", GREAT), ("a", 10 * GREATER)],
+    [("a", 2), ("b", GREAT), ("a", 7 * GREATER), ("b", GREATER), ("a", GREAT), ("b", 1)],
+    [("b", 5), ("a", HUGE), ("b", GREAT), ("a", GREATER)],
     [("a", HUGE), ("b", HUGE)],
 ]
 
@@ -88,6 +114,8 @@ NO_LISTS = [
     iter([("a", 1)]), Touchy(), HUGE,
 ]
 
+SOME_NO_RINGS = [None, [], [("a", 1), ("b", 0)], [("a", 1), ["b", 1]], (("a", 1),), [("a", True)]]
+
 
 def no_rings():
     """Whatever is no ring: wrong ones alone, behind right ones, before, and between them."""
@@ -112,3 +140,13 @@ def no_places(total):
 def no_counts():
     """Whatever is no whole number from 0 on."""
     return [*NO_WHOLE_NUMBERS, -1, -2, -GREAT, -HUGE]
+
+
+def no_times():
+    """Whatever is no whole number from 1 on."""
+    return [*NO_WHOLE_NUMBERS, 0, -1, -2, -GREAT, -HUGE]
+
+
+def no_numbers(many):
+    """Whatever is no number, counted from 0, of one of so many things."""
+    return [*NO_WHOLE_NUMBERS, -1, -2, -GREAT, -HUGE, many, many + 1, many + GREAT, many + HUGE]

@@ -2,18 +2,10 @@
 
 import unittest
 
-from ringbeads.errors import BadCount, BadPlace, BadRing, RingError
+from refused import Refused
+from ringbeads.errors import BadCount, BadPlace, BadRing
 from ringbeads.rings import among, beads, kind_at
-from samples import GREAT, RINGS, no_counts, no_places, no_rings
-
-
-class Refused(unittest.TestCase):
-    def refused(self, kind, told, *things):
-        """The call is refused by just this class, which is a RingError and a ValueError."""
-        with self.assertRaises(ValueError) as caught:
-            told(*things)
-        self.assertIs(caught.exception.__class__, kind)
-        self.assertIsInstance(caught.exception, RingError)
+from samples import GREAT, RINGS, SOME_NO_RINGS, no_counts, no_places, no_rings
 
 
 class NoRing(Refused):
@@ -32,13 +24,13 @@ class NoRing(Refused):
 
     def test_refused_before_a_wrong_place(self):
         for place in no_places(1):
-            for ring in (None, [], [("a", 1), ("b", 0)], [("a", 1), ["b", 1]], (("a", 1),)):
+            for ring in SOME_NO_RINGS:
                 self.refused(BadRing, kind_at, ring, place)
                 self.refused(BadRing, among, ring, place, 1)
 
     def test_refused_before_a_wrong_count(self):
         for many in no_counts():
-            for ring in (None, [], [("a", 1), ("b", 0)], [("a", 1), ["b", 1]], (("a", 1),)):
+            for ring in SOME_NO_RINGS:
                 self.refused(BadRing, among, ring, 0, many)
                 self.refused(BadRing, among, ring, -1, many)
 
